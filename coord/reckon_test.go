@@ -114,6 +114,8 @@ func TestReckonsMarks(t *testing.T) {
 		}
 		goes(t, x.mark, s, l, []api.Answer{{}, {}}, w)
 	}
+	// One that is the K of what is put there is put there behind it.
+	goes(t, "cv", s, l, []api.Answer{{}, {}}, []api.Write{gone(l[1]), v, {K: "cv", V: "1"}, gone(l[4])})
 }
 
 // Where the mark is, nothing is done: neither is anything refused.
